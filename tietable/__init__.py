@@ -1,0 +1,1 @@
+"""Tietable: what one table tells of a web of ties."""

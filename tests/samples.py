@@ -1,6 +1,7 @@
 """Webs and sets of ties that several test files walk through."""
 
 from itertools import combinations, combinations_with_replacement, product
+from math import comb
 
 # Four points each with each, a hexagon with its three long ties, a prism, and webs with
 # loops, ties between the same two points, lone points and bridges.
@@ -41,3 +42,46 @@ def many_webs():
 def sets_of(web):
     ties = range(len(web[1]))
     return [some for many in range(len(ties) + 1) for some in combinations(ties, many)]
+
+
+def reckoned_webs(many, points=6, ties=9, seed=1):
+    """Webs of all sizes, the same ones each time: their numbers are reckoned, not drawn."""
+    state = seed
+    told = []
+    for turn in range(many):
+        numbers = []
+        for step in range(2 * ties + 2):
+            state = (state * 1103515245 + 12345) % 2 ** 31
+            numbers.append(state // 2 ** 16)
+        here = 1 + numbers[0] % points
+        ends = [tuple(sorted((numbers[2 + 2 * k] % here, numbers[3 + 2 * k] % here))) for k in range(ties)]
+        told.append((here, tuple(ends[:numbers[1] % (ties + 1)])))
+    return told
+
+
+def parts_count(web, some):
+    """How many parts the points have, by painting each part from its least point on."""
+    colour = list(range(web[0]))
+    for _ in range(web[0]):
+        for tie in some:
+            a, b = web[1][tie]
+            colour[a] = colour[b] = min(colour[a], colour[b])
+    return len(set(colour))
+
+
+def power_of_less_one(often):
+    """(x - 1) taken so often: the numbers with x taken 0 times, 1 time and so on."""
+    return [comb(often, k) * (-1) ** (often - k) for k in range(often + 1)]
+
+
+def table_by_sets(web):
+    """The table as the sum over all sets of ties."""
+    points = web[0]
+    full = points - parts_count(web, range(len(web[1])))
+    sums = {}
+    for some in sets_of(web):
+        rank = points - parts_count(web, some)
+        for i, times in enumerate(power_of_less_one(full - rank)):
+            for j, more in enumerate(power_of_less_one(len(some) - rank)):
+                sums[i, j] = sums.get((i, j), 0) + times * more
+    return sorted((i, j, times) for (i, j), times in sums.items() if times)

@@ -3,6 +3,7 @@
 import unittest
 
 from tietable import errors
+from tietable.texts import read_web
 from tietable.webs import beside, drawn, joined, web_of, without
 
 NAMES = ["NoWeb", "NoTie", "NoText", "NoForest", "NoOrder", "NoHours", "NoArrows", "Apart",
@@ -23,6 +24,8 @@ REFUSED = [
     (errors.NoWeb, lambda: beside(LOOPS, LOOPS)),
     (errors.NoWeb, lambda: joined(FOUR, 0, FOUR, 0)),
     (errors.NoWeb, lambda: joined(LOOPS, 0, LOOPS, 0)),
+    (errors.NoText, lambda: read_web("3: 0-1 ")),
+    (errors.NoWeb, lambda: read_web("7:")),
 ]
 
 

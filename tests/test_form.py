@@ -24,6 +24,9 @@ NO_WORDS = re.compile(r"\b(type|typing|typing_extensions|enum|Enum|IntEnum|StrEn
                       r"|dataclass|overload|contextmanager")
 PLAIN = re.compile(r"[A-Za-z][A-Za-z0-9_]*\Z")
 TWICE_UNDERSCORED = ["__init__", "__eq__", "__repr__", "__str__", "__len__"]
+CHANGING = "append clear extend insert pop remove reverse setdefault update".split()
+KEYWORDS = {"sorted": ("key", "reverse"), "min": ("key", "default"), "max": ("key", "default"),
+            "sum": ("start",), "enumerate": ("start",), "zip": ("strict",)}
 
 # Whatever isn't here is no part of the small language.
 NODES = """Module Import ImportFrom alias FunctionDef ClassDef arguments arg Lambda Assign AugAssign If While For
@@ -62,6 +65,34 @@ def defined_names(tree):
 
 def drawn_from(tree):
     return [node for node in ast.walk(tree) if isinstance(node, ast.ImportFrom)]
+
+
+def top_names(node):
+    if isinstance(node, ast.ImportFrom):
+        return [alias.asname or alias.name for alias in node.names]
+    if isinstance(node, (ast.FunctionDef, ast.ClassDef)):
+        return [node.name]
+    if isinstance(node, ast.Assign):
+        return [node.targets[0].id]
+    return []
+
+
+def is_walked_once(node):
+    if not isinstance(node, ast.Call):
+        return False
+    if isinstance(node.func, ast.Name):
+        return node.func.id in ("zip", "enumerate", "reversed", "range")
+    return isinstance(node.func, ast.Attribute) and node.func.attr in ("items", "keys", "values")
+
+
+def walks_at_once(node, child):
+    if isinstance(node, (ast.For, ast.comprehension)):
+        return node.iter is child
+    if not isinstance(node, ast.Call) or child not in node.args:
+        return False
+    if isinstance(node.func, ast.Name):
+        return node.func.id in ("list", "tuple", "dict", "sorted", "sum", "any", "all", "enumerate", "zip", "min", "max")
+    return node.func.attr == "join"
 
 
 class Files(unittest.TestCase):
@@ -185,6 +216,63 @@ class Language(unittest.TestCase):
                     if isinstance(child, ast.Call) and isinstance(child.func, ast.Name) and child.func.id == "set":
                         straight = isinstance(node, ast.Call) and getattr(node.func, "id", "") in ("sorted", "len")
                         self.assertTrue(straight or isinstance(node, (ast.Compare, ast.BinOp)), (name, child.lineno))
+
+    def test_powers_have_a_written_exponent(self):
+        for place, node in nodes_of(ast.BinOp, ast.AugAssign):
+            if isinstance(node.op, ast.Pow):
+                exponent = node.right if isinstance(node, ast.BinOp) else node.value
+                self.assertTrue(isinstance(exponent, ast.Constant) and 0 <= exponent.value <= 64, place)
+
+    def test_each_top_name_once_and_no_local_like_an_import_or_a_class(self):
+        for name, tree in trees():
+            tops = [bound for node in tree.body for bound in top_names(node)]
+            self.assertEqual(sorted(tops), sorted(set(tops)), name)
+            taken = [bound for node in tree.body if isinstance(node, (ast.ImportFrom, ast.ClassDef))
+                     for bound in top_names(node)]
+            for node in ast.walk(tree):
+                if isinstance(node, ast.FunctionDef):
+                    for inner in ast.walk(node):
+                        bound = getattr(inner, "arg", None) or (
+                            inner.id if isinstance(inner, ast.Name) and isinstance(inner.ctx, ast.Store) else None)
+                        if not isinstance(inner, ast.keyword):
+                            self.assertNotIn(bound, taken, (name, node.name))
+
+    def test_what_is_walked_is_walked_on_the_spot(self):
+        for name, tree in trees():
+            for node in ast.walk(tree):
+                for child in ast.iter_child_nodes(node):
+                    if is_walked_once(child):
+                        self.assertTrue(walks_at_once(node, child), (name, child.lineno))
+
+    def test_what_a_loop_walks_is_not_changed_in_it(self):
+        for place, node in nodes_of(ast.For):
+            walked = [one.id for one in ast.walk(node.iter) if isinstance(one, ast.Name)]
+            for inner in ast.walk(ast.Module(body=node.body, type_ignores=[])):
+                if isinstance(inner, ast.Call) and isinstance(inner.func, ast.Attribute):
+                    changed = inner.func.attr in CHANGING and getattr(inner.func.value, "id", None) in walked
+                    self.assertFalse(changed, place)
+                if isinstance(inner, ast.Subscript) and isinstance(inner.ctx, ast.Store):
+                    self.assertNotIn(getattr(inner.value, "id", None), walked, place)
+
+    def test_keywords(self):
+        for place, node in nodes_of(ast.Call):
+            if isinstance(node.func, ast.Name) and node.func.id in OWN_NAMES:
+                for keyword in node.keywords:
+                    self.assertIn(keyword.arg, KEYWORDS.get(node.func.id, ()), place)
+            if isinstance(node.func, ast.Attribute) and node.func.attr in OWN_METHODS:
+                self.assertFalse(node.keywords, place)
+
+    def test_lists_and_dicts_of_a_top_hold_none_themselves(self):
+        for name, tree in trees():
+            for node in tree.body:
+                if isinstance(node, ast.Assign):
+                    nested = [one for one in ast.walk(node.value) if isinstance(one, (ast.List, ast.Dict))]
+                    self.assertFalse([one for one in nested if one is not node.value], (name, node.lineno))
+
+    def test_errors_are_taken_by_the_names_of_the_programs_own(self):
+        for place, node in nodes_of(ast.ExceptHandler):
+            self.assertIsInstance(node.type, ast.Name, place)
+            self.assertNotIn(node.type.id, ("Exception", "TypeError", "ValueError", "LookupError"), place)
 
 
 if __name__ == "__main__":

@@ -1,6 +1,6 @@
 """Webs and sets of ties that several test files walk through."""
 
-from itertools import combinations, combinations_with_replacement, product
+from itertools import combinations, combinations_with_replacement, permutations, product
 from math import comb
 
 # Four points each with each, a hexagon with its three long ties, a prism, and webs with
@@ -85,3 +85,14 @@ def table_by_sets(web):
             for j, more in enumerate(power_of_less_one(len(some) - rank)):
                 sums[i, j] = sums.get((i, j), 0) + times * more
     return sorted((i, j, times) for (i, j), times in sums.items() if times)
+
+
+def orders_of(web, most=24):
+    """All orders of the ties where they are few, else some that are spread over all of them."""
+    ties = list(range(len(web[1])))
+    if len(ties) <= 4:
+        return [list(order) for order in permutations(ties)]
+    told = [ties, ties[::-1], ties[::2] + ties[1::2]]
+    for seed in range(most - len(told)):
+        told.append(sorted(ties, key=lambda tie: pow(tie + 2, seed + 3, 1013)))
+    return told

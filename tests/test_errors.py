@@ -3,6 +3,9 @@
 import unittest
 
 from tietable import errors
+from tietable.flows import flow, flows_count
+from tietable.forests import cut_of, ring_of
+from tietable.orders import free, home, kept, sorted_table
 from tietable.texts import read_web
 from tietable.webs import beside, drawn, joined, web_of, without
 
@@ -26,6 +29,16 @@ REFUSED = [
     (errors.NoWeb, lambda: joined(LOOPS, 0, LOOPS, 0)),
     (errors.NoText, lambda: read_web("3: 0-1 ")),
     (errors.NoWeb, lambda: read_web("7:")),
+    (errors.NoForest, lambda: ring_of(FOUR, (0, 1), 0)),
+    (errors.NoForest, lambda: cut_of(FOUR, (0, 1), 9)),
+    (errors.NoTie, lambda: ring_of(TWO, (0,), 0)),
+    (errors.NoTie, lambda: cut_of(LOOPS, (), 0)),
+    (errors.NoForest, lambda: kept(TWO, [], ())),
+    (errors.NoOrder, lambda: free(TWO, [], (0,))),
+    (errors.NoOrder, lambda: home(TWO, [1], (0,))),
+    (errors.NoOrder, lambda: sorted_table(TWO, [0, 0])),
+    (errors.NoHours, lambda: flows_count(TWO, 0)),
+    (errors.NoHours, lambda: flow(TWO, -1)),
 ]
 
 

@@ -17,12 +17,23 @@ def is_ring(web, some):
 
 
 def is_cut(web, some):
-    every = tuple(range(len(web[1])))
+    every = all_ties(web)
     full = rank(web, every)
     rest = tuple([tie for tie in every if tie not in some])
     if len(some) == 0 or rank(web, rest) >= full:
         return False
     return all([rank(web, rest + (tie,)) == full for tie in some])
+
+
+def all_ties(web):
+    return tuple(range(len(web[1])))
+
+
+def all_sets(web):
+    sets = [()]
+    for tie in all_ties(web):
+        sets = sets + [some + (tie,) for some in sets]
+    return sorted(sets)
 
 
 def least_of_each(web, some):

@@ -3,6 +3,8 @@
 import unittest
 
 from tietable import errors
+from tietable.arrows import arrow_order, tie_told
+from tietable.drawings import faces, on_floor, turned_web
 from tietable.flows import flow, flows_count
 from tietable.forests import cut_of, ring_of
 from tietable.orders import free, home, kept, sorted_table
@@ -39,6 +41,12 @@ REFUSED = [
     (errors.NoOrder, lambda: sorted_table(TWO, [0, 0])),
     (errors.NoHours, lambda: flows_count(TWO, 0)),
     (errors.NoHours, lambda: flow(TWO, -1)),
+    (errors.NoArrows, lambda: arrow_order(TWO, ())),
+    (errors.NoArrows, lambda: tie_told(TWO, (2,), 0)),
+    (errors.NoTie, lambda: tie_told(TWO, (0,), 1)),
+    (errors.Apart, lambda: faces((2, ()), ())),
+    (errors.NoTurns, lambda: on_floor(TWO, ((), ()))),
+    (errors.NoFloor, lambda: turned_web((1, ((0, 0),) * 2), (((0, 0), (1, 0), (0, 1), (1, 1)),))),
 ]
 
 

@@ -4,9 +4,12 @@ import unittest
 
 from tietable import errors
 from tietable.arrows import arrow_order, tie_told
+from tietable.between import moves_between
+from tietable.desk import Desk
 from tietable.drawings import faces, on_floor, turned_web
 from tietable.flows import flow, flows_count
 from tietable.forests import cut_of, ring_of
+from tietable.moves import moved
 from tietable.orders import free, home, kept, sorted_table
 from tietable.texts import read_web
 from tietable.webs import beside, drawn, joined, web_of, without
@@ -46,6 +49,11 @@ REFUSED = [
     (errors.NoTie, lambda: tie_told(TWO, (0,), 1)),
     (errors.Apart, lambda: faces((2, ()), ())),
     (errors.NoTurns, lambda: on_floor(TWO, ((), ()))),
+    (errors.NoMove, lambda: moved(TWO, ("join", 0, 1))),
+    (errors.NoMatch, lambda: moves_between(TWO, FOUR)),
+    (errors.NoRow, lambda: Desk().say("")),
+    (errors.NoName, lambda: Desk().say("show a")),
+    (errors.NoText, lambda: Desk().say("web a ")),
     (errors.NoFloor, lambda: turned_web((1, ((0, 0),) * 2), (((0, 0), (1, 0), (0, 1), (1, 1)),))),
 ]
 

@@ -217,6 +217,13 @@ class Language(unittest.TestCase):
                         straight = isinstance(node, ast.Call) and getattr(node.func, "id", "") in ("sorted", "len")
                         self.assertTrue(straight or isinstance(node, (ast.Compare, ast.BinOp)), (name, child.lineno))
 
+    def test_what_stands_by_itself_is_a_call(self):
+        for name, tree in trees():
+            texts = tree.body[:1]
+            for node in ast.walk(tree):
+                if isinstance(node, ast.Expr) and node not in texts:
+                    self.assertIsInstance(node.value, ast.Call, (name, node.lineno))
+
     def test_powers_have_a_written_exponent(self):
         for place, node in nodes_of(ast.BinOp, ast.AugAssign):
             if isinstance(node.op, ast.Pow):

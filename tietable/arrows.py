@@ -1,24 +1,29 @@
 """Arrows on the ties of a web: an order of the points or a round, and of a tie a round or a cut one way."""
 
-from tietable.errors import NoArrows, NoTie
+from tietable.errors import NoArrows
+from tietable.webs import refuse_tie
 
 
 def arrow_order(web, arrows):
     refuse_arrows(web, arrows)
     for tie in range(len(web[1])):
-        ways = ways_from(web, arrows, head(web, arrows, tie))
-        if tail(web, arrows, tie) in ways:
-            return ("round", [tie] + ways[tail(web, arrows, tie)])
+        told = round_or_cut(web, arrows, tie)
+        if told[0] == "round":
+            return told
     return ("order", points_in_order(web, arrows))
 
 
 def tie_told(web, arrows, tie):
     refuse_arrows(web, arrows)
-    if not 0 <= tie < len(web[1]):
-        raise NoTie(f"no tie of this web has the number {tie}", tie)
+    refuse_tie(web, tie)
+    return round_or_cut(web, arrows, tie)
+
+
+def round_or_cut(web, arrows, tie):
     ways = ways_from(web, arrows, head(web, arrows, tie))
-    if tail(web, arrows, tie) in ways:
-        return ("round", [tie] + ways[tail(web, arrows, tie)])
+    begin = tail(web, arrows, tie)
+    if begin in ways:
+        return ("round", [tie] + ways[begin])
     # No arrow leads from a point that is reached to one that isn't: so all between the two lead out of the others.
     return ("cut", tuple([point for point in range(web[0]) if point not in ways]))
 
@@ -37,7 +42,7 @@ def head(web, arrows, tie):
 
 
 def ways_from(web, arrows, start):
-    """For each point that one comes to by the arrows a shortest row of ties: so it meets no point twice."""
+    # For each point that one comes to by the arrows a shortest row of ties: so it meets no point twice.
     ways = {start: []}
     waiting = [start]
     while len(waiting) > 0:

@@ -45,7 +45,7 @@ def settled(rows, many):
 
 
 def ring_row(web, forest, tie):
-    """For each tie 1 where the ring goes along it from A to B, -1 where from B to A, else 0."""
+    # For each tie 1 where the ring goes along it from A to B, -1 where from B to A, else 0.
     row = [0 for other in web[1]]
     row[tie] = 1
     left = [other for other in ring_with(web, forest, tie) if other != tie]

@@ -18,9 +18,8 @@ def web_of(points, ties):
 
 
 def without(web, tie):
+    refuse_tie(web, tie)
     ties = web[1]
-    if not 0 <= tie < len(ties):
-        raise NoTie(f"no tie of this web has the number {tie}", tie)
     return (web[0], ties[:tie] + ties[tie + 1:])
 
 
@@ -51,6 +50,11 @@ def refuse_numbers(points, many):
         raise NoWeb(f"a web has from 1 to {MOST_POINTS} points, not {points}", None)
     if many > MOST_TIES:
         raise NoWeb(f"a web has at most {MOST_TIES} ties, not {many}", None)
+
+
+def refuse_tie(web, tie):
+    if not 0 <= tie < len(web[1]):
+        raise NoTie(f"no tie of this web has the number {tie}", tie)
 
 
 def is_tie(thing, points):

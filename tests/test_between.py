@@ -126,6 +126,14 @@ class Moves(Between):
             for order in list(permutations(range(5)))[::7]:
                 self.assert_both_ways(five_ring(range(5), (more,)), five_ring(order, (more,)), "moves")
 
+    def test_a_ring_with_something_hanging_on_it(self):
+        ring = [(0, 1), (1, 2), (2, 3), (0, 3)]
+        for hanging in [((0, 0), (2, 2)), ((1, 1), (3, 3)), ((0, 0), (1, 1)), ((0, 4), (3, 3)),
+                        ((0, 0), (1, 1), (2, 2), (3, 3))]:
+            one = (5, tuple(ring) + hanging)
+            for order in permutations(ring):
+                self.assert_both_ways(one, (5, order + hanging), "moves")
+
     def test_two_rings_that_share_two_points(self):
         one = (4, ((0, 1), (1, 2), (0, 3), (2, 3), (0, 2)))
         for other in [(4, ((1, 2), (0, 1), (0, 3), (2, 3), (0, 2))), (4, ((0, 1), (1, 2), (2, 3), (0, 3), (0, 2))),
